@@ -1,0 +1,1 @@
+"""Turnsums: sums by turnings, planned from pieces."""
