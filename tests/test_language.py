@@ -1,4 +1,4 @@
-"""The rules of LANGUAGE.md that a reading of the code can check."""
+"""A part of the rules of LANGUAGE.md: those easiest to read off the code."""
 
 import ast
 import builtins
