@@ -186,6 +186,13 @@ class Language(unittest.TestCase):
         for where, node in self.nodes(ast.Attribute):
             self.assertIn(node.attr, methods | stored | METHODS, where)
 
+    def test_iterated_at_once(self):
+        for where, node in self.nodes(ast.Assign, ast.Return):
+            call = node.value
+            if isinstance(call, ast.Call):
+                name = getattr(call.func, "id", getattr(call.func, "attr", None))
+                self.assertNotIn(name, ("range", "zip", "enumerate", "reversed", "items", "keys", "values"), where)
+
     def test_equality_in_the_plain_form(self):
         for where, node in self.nodes(ast.FunctionDef):
             if node.name == "__eq__":

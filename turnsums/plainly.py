@@ -3,11 +3,13 @@
 
 def sum_at(ground, row, roots, place):
     """What stands at a place of the turning, roots being the row of all powers."""
-    # The first worth is times the power 0, which is one.
+    # The first worth is times the power 0, which is one, and so is each one at the place 0: no products there.
     told = row[0]
     for at in range(1, len(row)):
-        root = roots[at * place % len(row)]
-        told = ground.sum_of(told, ground.product_of(row[at], root))
+        worth = row[at]
+        if place > 0:
+            worth = ground.product_of(worth, roots[at * place % len(row)])
+        told = ground.sum_of(told, worth)
     return told
 
 
