@@ -96,11 +96,15 @@ GREAT = (
 )
 
 
+def roots_of(ground):
+    """The number that all lengths with a root divide."""
+    return ground.prime - 1 if isinstance(ground, Rests) else ground.order
+
+
 def fitting(lengths):
     """Those of GROUNDS that have a root of each of these."""
     for ground in GROUNDS:
-        size = ground.prime - 1 if isinstance(ground, Rests) else ground.order
-        if all(size % length == 0 for length in lengths):
+        if all(roots_of(ground) % length == 0 for length in lengths):
             yield ground
 
 
@@ -159,3 +163,26 @@ def steps_by_the_list(plan):
     first = steps_by_the_list(plan[1])
     more = (r - 1) * (m - 1) if word == "split" else 0
     return (r * sums + m * first[0], r * products + m * first[1] + more)
+
+
+def plans_by_the_rules(ground, length, with_stretch):
+    """The PLANs of [12], one by one, in their order."""
+    size = roots_of(ground)
+    yield plain(length)
+    if length in (1, 2, 3, 4):
+        yield short(length)
+    for word in ("split", "parts"):
+        for r in range(2, length):
+            m = length // r
+            if length % r == 0 and (word == "split" or not [d for d in range(2, r + 1) if r % d == 0 == m % d]):
+                for first in plans_by_the_rules(ground, r, with_stretch):
+                    for second in plans_by_the_rules(ground, m, with_stretch):
+                        yield (word, first, second)
+    if length >= 3 and all(length % d for d in range(2, length)) and size % (length - 1) == 0:
+        for inner in plans_by_the_rules(ground, length - 1, with_stretch):
+            yield powers(length, inner)
+    if with_stretch and length >= 2:
+        for m in range(2 * length - 1, 4 * length + 1):
+            if size % m == 0:
+                for inner in plans_by_the_rules(ground, m, False):
+                    yield stretch(length, inner)
