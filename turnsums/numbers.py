@@ -44,6 +44,14 @@ def divisors(number):
     return low + high[::-1]
 
 
+def product(numbers):
+    """The product of all numbers of a list, 1 of none."""
+    told = 1
+    for number in numbers:
+        told *= number
+    return told
+
+
 def are_coprime(one, other):
     """Whether no number but 1 divides both."""
     while other != 0:

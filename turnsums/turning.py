@@ -18,12 +18,17 @@ def by_short(work, plan, row):
     return short_turning(work, row)
 
 
+def one_by_one(ground, one, other):
+    """The products of what stands at one place in two rows of like length."""
+    return [ground.product_of(worth, by) for worth, by in zip(one, other)]
+
+
 def twisted(work, row, at, length):
     """The row with its b-th worth times the root of the length at at * b, none at or b 0."""
     if at == 0:
         return row
     roots = [work.root_at(length, at * place) for place in range(1, len(row))]
-    return row[:1] + [work.product_of(worth, root) for worth, root in zip(row[1:], roots)]
+    return row[:1] + one_by_one(work, row[1:], roots)
 
 
 def by_split(work, plan, row):
@@ -60,8 +65,7 @@ def mixed(work, plan, one, other):
     """Both rows turned by the PLAN, multiplied one by one, and turned back."""
     turning = turned(work, plan, one)
     beside = turned(work, plan, other)
-    products = [work.product_of(worth, by) for worth, by in zip(turning, beside)]
-    return shared_back(work, turned(work, plan, products))
+    return shared_back(work, turned(work, plan, one_by_one(work, turning, beside)))
 
 
 def by_powers(work, plan, row):
@@ -88,7 +92,7 @@ def by_stretch(work, plan, row):
     nought = work.worth_of(0)
     halves = [at * (at - 1) // 2 for at in range(2 * length - 1)]
     falling = [work.root_at(length, -half) for half in halves[:length]]
-    taken = [work.product_of(worth, root) for worth, root in zip(row, falling)]
+    taken = one_by_one(work, row, falling)
     roots = [work.root_at(length, half) for half in halves]
     sums = mixed(work, plan[2], taken[::-1] + [nought] * (size - length), roots + [nought] * (size - len(roots)))
     return [work.product_of(sums[length - 1 + at], root) for at, root in enumerate(falling)]
@@ -113,13 +117,18 @@ def turned(work, plan, row):
     return turning
 
 
-def check_turning(ground, plan, row):
-    """BadLength(len(row)); NoRoot(length) of the first of the plan's lengths without a root."""
-    if len(row) != plan_length(plan):
-        raise BadLength(len(row))
+def check_roots(ground, plan):
+    """NoRoot(length) of the first of the plan's lengths without a root."""
     for length in plan_lengths(plan):
         if not ground.has_root(length):
             raise NoRoot(length)
+
+
+def check_turning(ground, plan, row):
+    """BadLength(len(row)); NoRoot(length) as check_roots."""
+    if len(row) != plan_length(plan):
+        raise BadLength(len(row))
+    check_roots(ground, plan)
 
 
 def counted(ground, plan, row, *, back=False):
@@ -135,6 +144,13 @@ def counted(ground, plan, row, *, back=False):
 def turned_by(ground, plan, row, *, back=False):
     """What plain_turning tells, done by the PLAN; BadLength, NoRoot, NoShare."""
     return counted(ground, plan, row, back=back)[0]
+
+
+def turned_or_plain(ground, plan, row, *, back=False):
+    """What turned_by tells by a PLAN, and plain_turning where it's None; refused as these are."""
+    if plan is None:
+        return plain_turning(ground, row, back=back)
+    return turned_by(ground, plan, row, back=back)
 
 
 def ways_of(ground, plan, row):
