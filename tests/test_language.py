@@ -199,6 +199,18 @@ class Language(unittest.TestCase):
                 self.assertRegex(ast.unparse(node.body[-1]), r"^return isinstance\(other, \w+\) and ", where)
 
 
+    def test_finally_in_its_plain_form(self):
+        for where, node in self.nodes(ast.Try):
+            for part in node.finalbody:
+                shown = ast.unparse(part)
+                self.assertRegex(shown, r"^(pass|\w+(\.\w+)* -= \d+|\w+(\.\w+)*\.append\(\([\w', ]*\)\))$", where)
+
+    def test_len_in_its_plain_form(self):
+        for where, node in self.nodes(ast.FunctionDef):
+            if node.name == "__len__":
+                self.assertRegex(ast.unparse(node.body[-1]), r"^return len\(self\.\w+\)$", where)
+
+
 def top_names(part):
     if isinstance(part, ast.ImportFrom):
         return [alias.asname or alias.name for alias in part.names]
